@@ -1,0 +1,1 @@
+"""Patrol scheduling for an icebreaker."""

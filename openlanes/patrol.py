@@ -3,8 +3,7 @@
 from openlanes.operations import perform
 from openlanes.state import Request
 
-# How many parameters each operation has, by its number: of all that the
-# document names, as without an instance each of them is refused alike.
+# How many parameters each operation has, by its number.
 PARAMETER_COUNTS = (1, 3, 1, 2, 1, 2, 0, 1, 0, 0, 0, 0, 0, 1, 1, 1, 0, 0, 2, 0, 0, 0, 0)
 
 

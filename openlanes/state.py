@@ -1,5 +1,8 @@
 """What is held from one operation of a request to the next."""
 
+LEAST_MAX_AGE = 1
+MOST_MAX_AGE = 3
+
 
 class Channel:
     """A channel between two places; its age is held by the instance."""
@@ -31,3 +34,30 @@ class Request:
 
     def __init__(self):
         self.instance = None
+
+
+def current_state(instance):
+    """The state that the icebreaker and the channels are in."""
+    return (instance.place, tuple(instance.ages))
+
+
+def fresh_ages(instance):
+    """An age of 0 for each channel."""
+    return [0] * len(instance.channels)
+
+
+def change_max_age(instance, number, max_age):
+    """Gives a channel another maximum age, and keeps it open by it."""
+    instance.channels[number].max_age = max_age
+    instance.ages[number] = min(instance.ages[number], max_age)
+
+
+def copy_of(instance):
+    """Another instance that is like this one, to try changes on."""
+    copied = Instance(instance.place_count)
+    for channel in instance.channels:
+        copied.channels.append(Channel(channel.end_a, channel.end_b, channel.max_age))
+    copied.ages = list(instance.ages)
+    copied.place = instance.place
+    copied.hours_elapsed = instance.hours_elapsed
+    return copied

@@ -1,4 +1,4 @@
-"""Each error of the operations 0 to 8, which comes first, and that it changes nothing."""
+"""Each error of each operation, which comes first, and that it changes nothing."""
 
 import unittest
 
@@ -11,6 +11,7 @@ SETUP = [
 
 # What shows the whole instance: it changes much, so it stands last.
 PROBE = [
+    ("list_channels",), ("summary",), ("is_safe",), ("first_plan", 8), ("safe_plan", 9),
     ("available_moves",), ("legal_moves",), ("safe_moves",),
     ("set_position", 3), ("set_position", 2), ("available_moves",), ("set_position", 0), ("available_moves",),
     ("set_age", 0, 0), ("set_age", 1, 0), ("set_age", 2, 0),
@@ -19,6 +20,12 @@ PROBE = [
 ]
 
 THIRD_CHANNEL = [("add_channel", 0, 1, 3)]
+
+# Open, but both channels are due at once.
+NOT_SAFE = [("set_age", 0, 3), ("set_age", 1, 3)]
+
+# Only the channel at the other places is left.
+OUT_OF_REACH = [("remove_channel", 1), ("set_position", 2)]
 
 # What goes before, the call that is refused, and the code.
 REFUSALS = [
@@ -67,6 +74,37 @@ REFUSALS = [
 
     ([("set_age", 0, 3)], ("wait",), -35),
     ([("set_age", 1, 3)], ("wait",), -35),
+
+    ([], ("first_plan", 10), -22),
+    ([], ("first_plan", GREATEST), -22),
+    (NOT_SAFE, ("first_plan", 1), -33),
+    (NOT_SAFE, ("first_plan", 9), -33),
+    (OUT_OF_REACH, ("first_plan", 9), -33),
+
+    ([], ("safe_plan", 31), -22),
+    ([], ("safe_plan", GREATEST), -22),
+    (NOT_SAFE, ("safe_plan", 0), -33),
+    (NOT_SAFE, ("safe_plan", 1), -33),
+    (OUT_OF_REACH, ("safe_plan", 1), -33),
+    (OUT_OF_REACH, ("safe_plan", 30), -33),
+
+    ([], ("follow_safe_plan", 0), -22),
+    ([], ("follow_safe_plan", 31), -22),
+    ([], ("follow_safe_plan", GREATEST), -22),
+    (NOT_SAFE, ("follow_safe_plan", 1), -33),
+    (OUT_OF_REACH, ("follow_safe_plan", 1), -33),
+    (OUT_OF_REACH, ("follow_safe_plan", 30), -33),
+
+    (NOT_SAFE, ("tight_channels",), -33),
+    (OUT_OF_REACH, ("tight_channels",), -33),
+
+    ([], ("is_safe_with_max_age", 2, 1), -2),
+    ([], ("is_safe_with_max_age", GREATEST, 3), -2),
+    ([], ("is_safe_with_max_age", 0, 0), -22),
+    ([], ("is_safe_with_max_age", 1, 4), -22),
+    ([], ("is_safe_with_max_age", 1, GREATEST), -22),
+
+    (OUT_OF_REACH, ("min_common_max_age",), -33),
 ]
 
 TWO_AT_ONCE = [
@@ -88,6 +126,16 @@ TWO_AT_ONCE = [
     ([("set_age", 0, 3), ("set_age", 1, 3)], ("travel", 2), -2),
     ([("set_position", 0), ("set_age", 0, 3)], ("travel", 1), -12),
     ([("set_position", 2), ("set_age", 1, 3)], ("travel", 0), -12),
+    (NOT_SAFE, ("first_plan", 10), -22),
+    (OUT_OF_REACH, ("first_plan", GREATEST), -22),
+    (NOT_SAFE, ("safe_plan", 31), -22),
+    (OUT_OF_REACH, ("safe_plan", GREATEST), -22),
+    (NOT_SAFE, ("follow_safe_plan", 0), -22),
+    (NOT_SAFE, ("follow_safe_plan", 31), -22),
+    (OUT_OF_REACH, ("follow_safe_plan", GREATEST), -22),
+    ([], ("is_safe_with_max_age", 2, 0), -2),
+    ([], ("is_safe_with_max_age", 2, 4), -2),
+    ([], ("is_safe_with_max_age", GREATEST, GREATEST), -2),
 ]
 
 
@@ -95,11 +143,14 @@ class Refusals(unittest.TestCase):
     def test_what_the_probe_shows(self):
         answered = ask(*(SETUP + PROBE))
         self.assertEqual(answered[:5], [[0], [0], [1], [1, 0, 1], [1, 1, 2]])
+        self.assertEqual(answered[5:8], [[2, 0, 1, 3, 1, 2, 1, 3, 2], [3, 2, 1, 2], [1]])
+        # A second wait at place 2 is open, but channel 0 can't be reached behind it.
+        self.assertEqual(answered[8:10], [[8, 2, 2, 1, 0, 1, 2, 0, 0], [9, 2, 2, 1, 0, 1, 2, 0, 2, 1]])
         # Waiting or channel 0 leaves too little time for both channels.
-        self.assertEqual(answered[5:8], [[3, 0, 1, 2], [3, 0, 1, 2], [1, 2]])
-        self.assertEqual(answered[8:13], [[-2], [1], [2, 0, 2], [2], [2, 0, 1]])
-        self.assertEqual(answered[13:16], [[1], [2], [-2]])
-        self.assertEqual(answered[16:], [[3], [3], [-2], [2], [1], [0]])
+        self.assertEqual(answered[10:13], [[3, 0, 1, 2], [3, 0, 1, 2], [1, 2]])
+        self.assertEqual(answered[13:18], [[-2], [1], [2, 0, 2], [2], [2, 0, 1]])
+        self.assertEqual(answered[18:21], [[1], [2], [-2]])
+        self.assertEqual(answered[21:], [[3], [3], [-2], [2], [1], [0]])
 
     def check(self, before, refused, code):
         with self.subTest(before=before, refused=refused):

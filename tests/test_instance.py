@@ -1,4 +1,4 @@
-"""Operations 0 to 6: the instance, its channels, the position, ages and reset."""
+"""Operations 0 to 6, 21 and 22: the instance, its channels, the position, ages, reset, and what is shown."""
 
 import unittest
 
@@ -232,6 +232,68 @@ class Reset(unittest.TestCase):
             ("set_max_age", 0, 3),
         )
         self.assertEqual(answered[3:], [[1], [2], [2]])
+
+
+class ListChannels(unittest.TestCase):
+    def test_none(self):
+        self.assertEqual(ask_last(("create", 4), ("list_channels",)), [0])
+
+    def test_the_ends_as_they_were_passed(self):
+        self.assertEqual(
+            ask_last(
+                ("create", 4), ("add_channel", 3, 0, 1), ("add_channel", 0, 3, 2), ("add_channel", 2, 1, 3),
+                ("list_channels",),
+            ),
+            [3, 3, 0, 1, 0, 0, 3, 2, 0, 2, 1, 3, 0],
+        )
+
+    def test_travelling_does_not_turn_the_ends(self):
+        answered = ask(
+            ("create", 3), ("add_channel", 2, 0, 3), ("travel", 0), ("list_channels",), ("wait",), ("travel", 0),
+            ("wait",), ("wait",), ("list_channels",),
+        )
+        self.assertEqual([answered[3], answered[8]], [[1, 2, 0, 3, 0], [1, 2, 0, 3, 2]])
+
+    def test_ages_and_max_ages_as_they_are_now(self):
+        answered = ask(
+            ("create", 3), ("add_channel", 0, 1, 3), ("add_channel", 1, 2, 3), ("add_channel", 0, 2, 2),
+            ("set_age", 0, 3), ("set_age", 2, 1), ("list_channels",),
+            ("set_max_age", 0, 2), ("list_channels",), ("travel", 0), ("list_channels",),
+            ("remove_channel", 1), ("list_channels",), ("reset",), ("list_channels",), ("set_max_age", 1, 1),
+            ("remove_channel", 0), ("list_channels",),
+        )
+        self.assertEqual(answered[6], [3, 0, 1, 3, 3, 1, 2, 3, 0, 0, 2, 2, 1])
+        self.assertEqual(answered[8], [3, 0, 1, 2, 2, 1, 2, 3, 0, 0, 2, 2, 1])
+        self.assertEqual(answered[10], [3, 0, 1, 2, 0, 1, 2, 3, 1, 0, 2, 2, 2])
+        self.assertEqual(answered[12], [2, 0, 1, 2, 0, 0, 2, 2, 2])
+        self.assertEqual(answered[14], [2, 0, 1, 2, 0, 0, 2, 2, 0])
+        self.assertEqual(answered[17], [1, 0, 2, 1, 0])
+
+
+class Summary(unittest.TestCase):
+    def test_of_a_new_instance(self):
+        for place_count in (2, 3, 4):
+            self.assertEqual(ask_last(("create", place_count), ("summary",)), [place_count, 0, 0, 0])
+
+    def test_each_number_of_it(self):
+        answered = ask(
+            ("create", 4), ("add_channel", 1, 3, 3), ("summary",), ("set_position", 3), ("summary",), ("wait",),
+            ("summary",), ("travel", 0), ("summary",), ("add_channel", 0, 1, 3), ("summary",),
+            ("remove_channel", 0), ("summary",), ("reset",), ("summary",), ("create", 2), ("summary",),
+        )
+        self.assertEqual(answered[2::2], [
+            [4, 1, 0, 0], [4, 1, 3, 0], [4, 1, 3, 1], [4, 1, 1, 2], [4, 2, 1, 2], [4, 1, 1, 2], [4, 1, 1, 0],
+            [2, 0, 0, 0],
+        ])
+
+    def test_hours_pass_with_moves_alone(self):
+        answered = ask(
+            ("create", 2), ("add_channel", 0, 1, 2), ("wait",), ("first_plan", 9), ("safe_plan", 30), ("summary",),
+            ("follow_safe_plan", 7), ("summary",), ("set_age", 0, 2), ("wait",), ("summary",),
+        )
+        self.assertEqual(answered[5], [2, 1, 0, 1])
+        self.assertEqual(answered[7][3], 8)
+        self.assertEqual(answered[9:], [[-35], [2, 1, answered[7][2], 8]])
 
 
 if __name__ == "__main__":
